@@ -1,7 +1,7 @@
 """Lights: lamps seen from afar, of which nobody sees whose a bright beat is."""
 
 from farlamps.errors import NoLight, NoPaper
-from farlamps.lamps import Lamp
+from farlamps.lamps import Lamp, seen_from
 from farlamps.whole import check_beat, is_whole
 
 MOST_LAMPS = 10
@@ -47,21 +47,21 @@ class Light:
     def next_dark(self, begin):
         """Tell ("dark", beat) of the first dark beat from begin on, or ("ever", paper)."""
         check_beat(begin)
-        rows = _shining_rows(self, begin)
-        for offset, row in enumerate(rows):
-            if not row:
-                return ("dark", begin + offset)
-        return ("ever", _least_paper(rows))
+        rows = _rows_from(self, begin)
+        dark = empty_places(rows)
+        if not dark:
+            return ("ever", least_paper(rows))
+        return ("dark", begin + dark[0])
 
     def last_dark(self, begin):
         """Tell ("dark", beat) of the last dark beat up to begin, or ("ever", paper)."""
         check_beat(begin)
         first = begin - self.wait() + 1
-        rows = _shining_rows(self, first)
-        for offset in reversed(range(len(rows))):
-            if not rows[offset]:
-                return ("dark", first + offset)
-        return ("ever", _least_paper(rows))
+        rows = _rows_from(self, first)
+        dark = empty_places(rows)
+        if not dark:
+            return ("ever", least_paper(rows))
+        return ("dark", first + dark[-1])
 
 
 def check_ever(light, begin, paper):
@@ -69,32 +69,56 @@ def check_ever(light, begin, paper):
     check_beat(begin)
     if not isinstance(paper, list):
         raise NoPaper(-1)
-    rows = _shining_rows(light, begin)
-    for at, (thing, row) in enumerate(zip(paper, rows)):
-        if not is_whole(thing) or thing not in row:
-            raise NoPaper(at)
+    rows = _rows_from(light, begin)
+    at = first_amiss(paper, rows)
+    if at is not None:
+        raise NoPaper(at)
     if len(paper) != len(rows):
         raise NoPaper(min(len(paper), len(rows)))
 
 
-def _copied(lamps):
-    # A light shares no lamp with anybody, so that nothing that is done to one changes it.
-    return [Lamp(lamp.period, lamp.beat) for lamp in lamps]
+def shining_rows(numbered, begin, many):
+    """Tell of each of many beats from begin on a row: the rising list of the numbers of the lamps that shine.
 
-
-def _shining_rows(light, begin):
-    """Tell of each of wait() beats from begin on the rising list of the numbers of the lamps that shine.
-
-    So many beats are enough: a light of k lamps that is bright at 2 ** k beats in a row is bright for ever.
+    numbered is a list of pairs of a number and its lamp, rising by numbers.
     """
-    many = light.wait()
     rows = [[] for offset in range(many)]
-    for number, lamp in enumerate(light.lamps()):
+    for number, lamp in numbered:
         # Going by periods from the first shine on divides great numbers once a lamp, not once a beat.
         for offset in range(lamp.next_shine(begin) - begin, many, lamp.period):
             rows[offset].append(number)
     return rows
 
 
-def _least_paper(rows):
+def seen_rows(lamp, numbered, first, many):
+    """Tell the rows of the numbered lamps at many own beats of a lamp, from its own beat of number first on."""
+    seen = [(number, seen_from(lamp, other)) for number, other in numbered]
+    return shining_rows([(number, other) for number, other in seen if other is not None], first, many)
+
+
+def empty_places(rows):
+    """Tell the rising list of the places of the rows at which no lamp shines."""
+    return [place for place, row in enumerate(rows) if not row]
+
+
+def least_paper(rows):
+    """Tell the paper of rows of which none is empty: the least number of each."""
     return [row[0] for row in rows]
+
+
+def first_amiss(paper, rows):
+    """Tell the place of the first thing in a paper that is no number of the row at its place, or None."""
+    for place, (thing, row) in enumerate(zip(paper, rows)):
+        if not is_whole(thing) or thing not in row:
+            return place
+    return None
+
+
+def _rows_from(light, begin):
+    # So many beats are enough: a light of k lamps that is bright at 2 ** k beats in a row is bright for ever.
+    return shining_rows(list(enumerate(light.lamps())), begin, light.wait())
+
+
+def _copied(lamps):
+    # A light shares no lamp with anybody, so that nothing that is done to one changes it.
+    return [Lamp(lamp.period, lamp.beat) for lamp in lamps]

@@ -4,16 +4,10 @@ import unittest
 from itertools import product
 
 from farlamps.errors import NoBeat, NoPaper
-from farlamps.lamps import Lamp
 from farlamps.lights import Light, check_ever
-from tests.things import Hostile, doubling, not_whole, numbers_at, small_lights
+from tests.things import Hostile, doubling, light_of, not_whole, numbers_at, small_lights
 
 FORTY = 10 ** 39 + 7
-
-
-def light_of(pairs):
-    return Light([Lamp(period, beat) for period, beat in pairs])
-
 
 EVEN_AND_ODD = light_of([(2, 0), (2, 1)])
 

@@ -6,7 +6,7 @@ import unittest
 from pathlib import Path
 
 import farlamps
-from farlamps import errors, lamps, lights
+from farlamps import counts, errors, idle, lamps, lights, parting
 
 PACKAGE = Path(farlamps.__file__).parent
 
@@ -25,6 +25,18 @@ METHODS = {
 FUNCTIONS = {
     lamps: {"meet": ["one", "other"], "seen_from": ["lamp", "other"], "hides": ["one", "other"]},
     lights: {"check_ever": ["light", "begin", "paper"]},
+    idle: {
+        "idle": ["light"], "needed": ["light"], "may_go": ["light", "numbers"],
+        "check_go": ["light", "numbers", "papers"], "least_kept": ["light"],
+    },
+    parting: {
+        "within": ["one", "other", "begin=0"], "parted": ["one", "other", "begin=0"],
+        "parted_back": ["one", "other", "begin=0"], "check_within": ["one", "other", "papers"],
+    },
+    counts: {
+        "dark_between": ["light", "begin", "end"], "by_many": ["light", "begin", "end"], "share": ["light"],
+        "nth_dark": ["light", "number", "begin=0"],
+    },
 }
 
 CLASSES = {
@@ -34,10 +46,17 @@ CLASSES = {
 }
 
 
-def named(function):
-    """The names of the parameters, each of which may be handed in by its place or by its name."""
-    told = inspect.signature(function).parameters.values()
-    return [one.name for one in told if one.kind is one.POSITIONAL_OR_KEYWORD and one.default is one.empty]
+def told_as(parameter):
+    """A parameter as the tables tell it: its name, and "=" and its default where it stands behind a star."""
+    if parameter.kind is parameter.POSITIONAL_OR_KEYWORD and parameter.default is parameter.empty:
+        return parameter.name
+    if parameter.kind is parameter.KEYWORD_ONLY:
+        return f"{parameter.name}={parameter.default!r}"
+    return f"{parameter} ({parameter.kind})"
+
+
+def parameters(function):
+    return [told_as(parameter) for parameter in inspect.signature(function).parameters.values()]
 
 
 class Interface(unittest.TestCase):
@@ -45,18 +64,16 @@ class Interface(unittest.TestCase):
         for owner, methods in METHODS.items():
             for name, wanted in methods.items():
                 self.assertIn(name, vars(owner))
-                self.assertEqual(named(vars(owner)[name]), wanted, name)
-                self.assertEqual(len(inspect.signature(vars(owner)[name]).parameters), len(wanted), name)
+                self.assertEqual(parameters(vars(owner)[name]), wanted, name)
 
     def test_functions_have_their_arguments(self):
         for module, functions in FUNCTIONS.items():
             for name, wanted in functions.items():
-                self.assertEqual(named(getattr(module, name)), wanted, name)
-                self.assertEqual(len(inspect.signature(getattr(module, name)).parameters), len(wanted), name)
+                self.assertEqual(parameters(getattr(module, name)), wanted, name)
 
     def test_each_is_defined_in_its_own_file(self):
-        for module in (errors, lamps, lights):
-            for name in list(FUNCTIONS.get(module, [])) + CLASSES[module]:
+        for module in (errors, lamps, lights, idle, parting, counts):
+            for name in list(FUNCTIONS.get(module, [])) + CLASSES.get(module, []):
                 self.assertEqual(getattr(module, name).__module__, module.__name__, name)
 
     def test_nothing_from_outside_is_imported_but_plain_arithmetic(self):
@@ -64,7 +81,7 @@ class Interface(unittest.TestCase):
             for node in ast.walk(ast.parse(file.read_text(encoding="utf-8"))):
                 self.assertNotIsInstance(node, ast.Import, file.name)
                 if isinstance(node, ast.ImportFrom):
-                    self.assertIn(node.module.split(".")[0], ("farlamps", "math"), file.name)
+                    self.assertIn(node.module.split(".")[0], ("farlamps", "math", "itertools"), file.name)
 
     def test_no_file_is_opened_and_nothing_is_asked_or_printed(self):
         for file in PACKAGE.rglob("*.py"):

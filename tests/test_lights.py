@@ -1,32 +1,21 @@
 """Stage 2: Light, lamps, wait (2.1); is_bright, shining, next_bright (2.2); next_dark, last_dark (2.3)."""
 
 import unittest
-from math import lcm
 
 from farlamps.errors import NoBeat, NoLight
 from farlamps.lamps import Lamp
 from farlamps.lights import Light, check_ever
-from tests.things import EqualToAll, Hostile, doubling, not_whole, numbers_at, small_lights
+from tests.things import (
+    EqualToAll, Hostile, doubling, fields_of, light_of, not_whole, numbers_at, round_of, small_lights,
+)
 
 FORTY = 10 ** 39 + 7
 # The system of lamps that covers all beats by unlike periods.
 COVERING = [(2, 0), (3, 0), (4, 1), (6, 5), (12, 7)]
 
 
-def light_of(pairs):
-    return Light([Lamp(period, beat) for period, beat in pairs])
-
-
-def fields_of(light):
-    return [(lamp.period, lamp.beat) for lamp in light.lamps()]
-
-
 def dark_beats(pairs, begin, end):
     return [beat for beat in range(begin, end) if not numbers_at(pairs, beat)]
-
-
-def round_of(pairs):
-    return lcm(*[period for period, beat in pairs])
 
 
 class Made(unittest.TestCase):

@@ -3,6 +3,11 @@
 from decimal import Decimal
 from fractions import Fraction
 from itertools import product
+from math import lcm
+from random import Random
+
+from farlamps.lamps import Lamp
+from farlamps.lights import Light
 
 
 class Hostile:
@@ -68,3 +73,27 @@ def numbers_at(pairs, beat):
 def doubling(many, by=0):
     """Pairs of periods 2, 4, 8 and so on, whose light is dark just at by and each 2 ** many from there."""
     return [(2 ** (place + 1), 2 ** place + by) for place in range(many)]
+
+
+def light_of(pairs):
+    """The light of such pairs."""
+    return Light([Lamp(period, beat) for period, beat in pairs])
+
+
+def fields_of(light):
+    """The pairs of a light's lamps."""
+    return [(lamp.period, lamp.beat) for lamp in light.lamps()]
+
+
+def round_of(*lights):
+    """The common round of the periods of all these lists of pairs."""
+    return lcm(*[period for pairs in lights for period, beat in pairs])
+
+
+def mixed_lights(seed, how_many, numbers_of_lamps, periods):
+    """Lists of pairs with these numbers of lamps and these periods, the same ones at each run."""
+    chance = Random(seed)
+    return [
+        [(period, chance.randrange(period)) for period in chance.choices(periods, k=chance.choice(numbers_of_lamps))]
+        for _ in range(how_many)
+    ]
