@@ -2,9 +2,8 @@
 
 from itertools import combinations
 
-from farlamps.errors import NoNumber, NoPaper, TooMany
-from farlamps.lights import empty_places, first_amiss, least_paper, seen_rows
-from farlamps.whole import is_whole
+from farlamps.errors import NoPaper, TooMany
+from farlamps.lights import check_numbers, empty_places, first_amiss, least_paper, seen_rows
 
 MOST_TO_CHOOSE = 6
 
@@ -21,7 +20,7 @@ def needed(light):
 
 def may_go(light, numbers):
     """Tell ("go", papers) where the lamps of these numbers may go together, or ("dark", beat) of the first loss."""
-    _check_numbers(light, numbers)
+    check_numbers(light, numbers)
     going = _going(light, numbers)
     beats = [_first_left(lamp, rows) for lamp, rows in going]
     lost = [beat for beat in beats if beat is not None]
@@ -32,7 +31,7 @@ def may_go(light, numbers):
 
 def check_go(light, numbers, papers):
     """Tell None where the papers show that the lamps of these numbers may go together; else refuse them."""
-    _check_numbers(light, numbers)
+    check_numbers(light, numbers)
     if not isinstance(papers, list) or len(papers) != len(numbers):
         raise NoPaper(-1)
     wanted = [rows for lamp, rows in _going(light, numbers)]
@@ -83,13 +82,3 @@ def _are_enough(kept, seen):
     """Tell whether at each lamp's first own beats, as many as the kept lamps ask for, a kept one shines."""
     wait = 1 << len(kept)
     return all([any([number in kept for number in row]) for rows in seen for row in rows[:wait]])
-
-
-def _check_numbers(light, numbers):
-    """Refuse what is no list or tuple of unlike numbers of lamps."""
-    if not isinstance(numbers, (list, tuple)):
-        raise NoNumber(numbers)
-    many = len(light.lamps())
-    for place, thing in enumerate(numbers):
-        if not is_whole(thing) or not 0 <= thing < many or thing in numbers[:place]:
-            raise NoNumber(thing)

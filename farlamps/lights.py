@@ -1,6 +1,6 @@
 """Lights: lamps seen from afar, of which nobody sees whose a bright beat is."""
 
-from farlamps.errors import NoLight, NoPaper
+from farlamps.errors import NoLight, NoNumber, NoPaper
 from farlamps.lamps import Lamp, seen_from
 from farlamps.whole import check_beat, is_whole
 
@@ -75,6 +75,16 @@ def check_ever(light, begin, paper):
         raise NoPaper(at)
     if len(paper) != len(rows):
         raise NoPaper(min(len(paper), len(rows)))
+
+
+def check_numbers(light, numbers):
+    """Refuse what is no list or tuple of unlike numbers of the light's lamps."""
+    if not isinstance(numbers, (list, tuple)):
+        raise NoNumber(numbers)
+    many = len(light.lamps())
+    for place, thing in enumerate(numbers):
+        if not is_whole(thing) or not 0 <= thing < many or thing in numbers[:place]:
+            raise NoNumber(thing)
 
 
 def shining_rows(numbered, begin, many):

@@ -1,4 +1,4 @@
-"""The interface of what has landed: names, arguments, where they are defined, and what is imported."""
+"""The interface: names, arguments, where they are defined, and what is imported."""
 
 import ast
 import inspect
@@ -6,7 +6,7 @@ import unittest
 from pathlib import Path
 
 import farlamps
-from farlamps import counts, errors, idle, lamps, lights, parting
+from farlamps import counts, errors, idle, lamps, led, lights, made, moved, parting, stretches
 
 PACKAGE = Path(farlamps.__file__).parent
 
@@ -36,6 +36,22 @@ FUNCTIONS = {
     counts: {
         "dark_between": ["light", "begin", "end"], "by_many": ["light", "begin", "end"], "share": ["light"],
         "nth_dark": ["light", "number", "begin=0"],
+    },
+    stretches: {
+        "stretch_at": ["light", "beat"], "longest_bright": ["light"], "tree": ["light", "long"],
+        "check_longest": ["light", "long", "paper"],
+    },
+    made: {
+        "set_for": ["periods"], "check_none": ["periods", "tree"], "more_for": ["light", "menu", "most"],
+        "check_more": ["light", "menu", "most", "tree"],
+    },
+    led: {
+        "fits": ["window", "most", "longest"], "clash": ["window", "most", "longest"],
+        "sure": ["window", "most", "longest", "beat"], "watch_on": ["window", "most", "longest"],
+    },
+    moved: {
+        "moved": ["light", "by"], "stretched": ["light", "times"], "thinned": ["light", "lamp"],
+        "without": ["light", "numbers"], "joined": ["one", "other"], "both": ["one", "other"],
     },
 }
 
@@ -72,7 +88,7 @@ class Interface(unittest.TestCase):
                 self.assertEqual(parameters(getattr(module, name)), wanted, name)
 
     def test_each_is_defined_in_its_own_file(self):
-        for module in (errors, lamps, lights, idle, parting, counts):
+        for module in (errors, lamps, lights, idle, parting, counts, stretches, made, led, moved):
             for name in list(FUNCTIONS.get(module, [])) + CLASSES.get(module, []):
                 self.assertEqual(getattr(module, name).__module__, module.__name__, name)
 
